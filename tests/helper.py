@@ -1,0 +1,110 @@
+"""What the tests share: calls made from texts, and answers taken apart."""
+
+from protesthall.desk import answers
+
+BOOK = """book rrs
+pred port 1
+pred stbd 1
+pred meets 2
+pred clear 1
+pred must 2
+pred broke 1
+pred heard 0
+rule must(X,Y) if port(X) if stbd(Y) if meets(X,Y) differ X Y
+rule broke(X) if must(X,Y) unless clear(X)
+rule heard when filed <= finish + 60
+valid heard
+penalty broke DSQ
+"""
+
+CASE = """case one
+boat Ada
+boat Bo
+fact port(Ada)
+fact stbd(Bo)
+fact meets(Ada,Bo)
+number filed 100
+number finish 50
+"""
+
+
+def row(text):
+    """A text, or bytes, as a row with its count before it."""
+    content = list(text.encode("latin-1") if isinstance(text, str) else text)
+    return [len(content)] + content
+
+
+def book(text=BOOK):
+    return [0] + row(text)
+
+
+def printed():
+    return [1]
+
+
+def layers():
+    return [2]
+
+
+def new_case(text=CASE):
+    return [3] + row(text)
+
+
+def fact(case, value, atom):
+    return [4, case, value] + row(atom)
+
+
+def number(case, value, name):
+    return [5, case, value] + row(name)
+
+
+def rule(case, which, value):
+    return [6, case, which, value]
+
+
+def holds(case, atom):
+    return [7, case] + row(atom)
+
+
+def every(case, predicate):
+    return [8, case, predicate]
+
+
+def proof(case, atom):
+    return [9, case] + row(atom)
+
+
+def lines(*told):
+    return "".join(line + "\n" for line in told)
+
+
+def padded(text, size):
+    """The text with a remark behind it that makes it this long."""
+    return text + "#" * (size - len(text))
+
+
+def joined(rows):
+    return [value for each in rows for value in each]
+
+
+def run(*calls):
+    """The calls' answers, each a list; the counts in front of them must come out even."""
+    told = answers(joined(calls))
+    apart = []
+    place = 0
+    while place < len(told):
+        end = place + 1 + told[place]
+        assert end <= len(told)
+        apart.append(told[place + 1:end])
+        place = end
+    assert len(apart) == len(calls)
+    return apart
+
+
+def last(*calls):
+    """What the last of the calls answers."""
+    return run(*calls)[-1]
+
+
+def text(answer):
+    return bytes(answer).decode("latin-1")
