@@ -68,6 +68,19 @@ class Case:
         return self.name != "" and len(self.boats) > 0
 
 
+def suppose_fact(case, value, atom):
+    """The case as it would be if the atom were a fact (1), or weren't one (0)."""
+    supposed = Case(case.predicates)
+    supposed.name = case.name
+    supposed.boats = dict(case.boats)
+    supposed.facts = [fact for fact in case.facts if fact != atom]
+    supposed.numbers = dict(case.numbers)
+    supposed.idle = dict(case.idle)
+    if value == 1:
+        supposed.facts.append(atom)
+    return supposed
+
+
 def write_case(case):
     """The lines of the case, written back."""
     lines = ["case " + case.name]

@@ -27,6 +27,15 @@ def make_step(atom, instance):
     return (instance.number,) + atom + instance.boats[1:]
 
 
+def atom_of(step):
+    return step[1:4]
+
+
+def found_facts(certificate):
+    """The facts among the certificate's steps, in order."""
+    return [atom_of(step) for step in certificate.steps if step[0] == 0]
+
+
 def by_heads(instances):
     """By each head its instances, in order."""
     heads = {}

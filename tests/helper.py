@@ -74,6 +74,52 @@ def proof(case, atom):
     return [9, case] + row(atom)
 
 
+def check(case, numbers):
+    return [10, case] + row(numbers)
+
+
+def support(case, atom):
+    return [11, case] + row(atom)
+
+
+def penalties(case):
+    return [12, case]
+
+
+def suppose(case, value, atom):
+    return [13, case, value] + row(atom)
+
+
+def decide(case):
+    return [14, case]
+
+
+def stands(which):
+    return [15, which]
+
+
+def decision(which):
+    return [16, which]
+
+
+def written(case):
+    return [17, case]
+
+
+def counts():
+    return [18]
+
+
+def certificate(steps, away):
+    """A certificate as proof tells it, behind its first 1 or 0."""
+    return [len(steps)] + joined(steps) + [len(away)] + joined(away)
+
+
+def found(predicate, first=0, second=0):
+    """A fact's step."""
+    return (0, predicate, first, second, 0, 0, 0)
+
+
 def lines(*told):
     return "".join(line + "\n" for line in told)
 
@@ -89,7 +135,9 @@ def joined(rows):
 
 def run(*calls):
     """The calls' answers, each a list; the counts in front of them must come out even."""
-    told = answers(joined(calls))
+    handed = joined(calls)
+    assert 1 <= len(calls) <= 100 and len(handed) <= 16000, "more than may be handed in"
+    told = answers(handed)
     apart = []
     place = 0
     while place < len(told):

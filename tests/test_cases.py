@@ -2,10 +2,8 @@
 
 import unittest
 
-from protesthall.books import Book
-from protesthall.cases import Case, write_case
-from protesthall.texts import bytes_of, wrong_line
-from tests.helper import CASE, book, every, fact, holds, last, lines, new_case, number, padded, rule, run, text
+from tests.helper import (CASE, book, every, fact, holds, last, lines, new_case, number, padded, proof, rule, run,
+                          suppose, text, written)
 
 PREDS = ("book b", "pred late 0", "pred port 1", "pred over 2")
 BOOK = lines(*PREDS)
@@ -164,14 +162,78 @@ class Bounds(unittest.TestCase):
 
 
 class WrittenBack(unittest.TestCase):
+    def back(self, *calls):
+        """The first case, written back behind the calls."""
+        return text(last(book(BOOK), *calls, written(1)))
+
     def test_case_boats_facts_numbers(self):
-        told = Book()
-        self.assertEqual(wrong_line(list(BOOK.encode()), told), 0)
-        case = Case(told.predicates)
         content = " number  m 5 \n\nboat B\nfact late\n# x\nboat A\nfact over(B,A)\ncase c\nnumber a 0\nfact port(A)"
-        self.assertEqual(wrong_line(list(content.encode()), case), 0)
-        self.assertEqual(text(bytes_of(write_case(case))), "case c\nboat B\nboat A\nfact late\nfact over(B,A)\n"
+        self.assertEqual(self.back(new_case(content)), "case c\nboat B\nboat A\nfact late\nfact over(B,A)\n"
                          "fact port(A)\nnumber m 5\nnumber a 0\n")
+
+    def test_a_case_as_it_stands(self):
+        self.assertEqual(last(book(), new_case(), written(1)), list(CASE.encode()))
+        self.assertEqual(last(book(), new_case(CASE[:-1]), written(1)), list(CASE.encode()))
+
+    def test_the_smallest_case(self):
+        self.assertEqual(self.back(new_case("boat A\ncase c")), "case c\nboat A\n")
+
+    def test_neither_by_names_nor_by_numbers(self):
+        told = lines("case z", "boat b", "boat D", "boat a", "boat C", "fact port(C)", "fact over(a,D)", "fact late",
+                     "fact over(D,a)", "fact port(b)", "number z 1", "number 9 1000000", "number A 0", "number 10 12")
+        self.assertEqual(self.back(new_case(told)), told)
+
+    def test_a_fact_found_later_stands_behind_the_others(self):
+        told = [new_case(lines(*HEAD, "fact port(B)", "fact over(A,B)", "number n 7"))]
+        told.append(fact(1, 1, "late"))
+        self.assertEqual(self.back(*told),
+                         lines(*HEAD, "fact port(B)", "fact over(A,B)", "fact late", "number n 7"))
+        told.append(fact(1, 1, "port(A)"))
+        self.assertEqual(self.back(*told), lines(*HEAD, "fact port(B)", "fact over(A,B)", "fact late", "fact port(A)",
+                                                 "number n 7"))
+
+    def test_a_fact_taken_back(self):
+        told = [new_case(lines(*HEAD, "fact port(B)", "fact over(A,B)", "fact late")), fact(1, 0, "over(A,B)")]
+        self.assertEqual(self.back(*told), lines(*HEAD, "fact port(B)", "fact late"))
+        told.append(fact(1, 1, "over(A,B)"))
+        self.assertEqual(self.back(*told), lines(*HEAD, "fact port(B)", "fact late", "fact over(A,B)"))
+        told += [fact(1, 0, "port(B)"), fact(1, 0, "late"), fact(1, 0, "over(A,B)")]
+        self.assertEqual(self.back(*told), lines(*HEAD))
+
+    def test_numbers_told_anew_and_newly(self):
+        told = [new_case(lines(*HEAD, "number n 7", "number m 8")), number(1, 0, "k")]
+        self.assertEqual(self.back(*told), lines(*HEAD, "number n 7", "number m 8", "number k 0"))
+        told += [number(1, 1000000, "n"), number(1, 8, "m"), number(1, 1, "a")]
+        self.assertEqual(self.back(*told), lines(*HEAD, "number n 1000000", "number m 8", "number k 0", "number a 1"))
+
+    def test_refusals_leave_it_as_it_is(self):
+        told = lines(*HEAD, "fact port(B)", "number n 7")
+        calls = [new_case(told), fact(1, 1, "port(B)"), fact(1, 0, "late"), fact(1, 2, "late"), fact(1, 1, "port(C)"),
+                 number(1, -1, "n"), number(1, 1000001, "k"), number(1, 1, "k k"), number(1, 1, "")]
+        self.assertEqual(self.back(*calls), told)
+
+    def test_what_holds_by_a_rule_is_no_fact_and_rules_are_not_written(self):
+        told = [book(), new_case(), holds(1, "broke(Ada)"), proof(1, "broke(Ada)"), rule(1, 1, 0),
+                suppose(1, 1, "clear(Ada)"), suppose(1, 0, "port(Ada)"), written(1)]
+        self.assertEqual(text(last(*told)), CASE)
+
+    def test_what_is_written_back_is_that_case(self):
+        told = new_case(lines(*HEAD, "fact port(B)", "fact late", "number n 7"))
+        first = last(book(BOOK), told, fact(1, 0, "port(B)"), fact(1, 1, "over(B,B)"), number(1, 3, "m"), written(1))
+        self.assertEqual(run(book(BOOK), new_case(first), written(1)), [[3, 0], [1], first])
+
+    def test_each_case_its_own(self):
+        other = "case d\nboat Z\nfact port(Z)\n"
+        calls = [book(BOOK), new_case(lines(*HEAD)), new_case(other), fact(1, 1, "late"), number(2, 4, "n")]
+        self.assertEqual(text(last(*calls, written(1))), lines(*HEAD, "fact late"))
+        self.assertEqual(text(last(*calls, written(2))), other + "number n 4\n")
+
+    def test_60_facts_and_8_numbers(self):
+        preds = ["pred p%d 2" % each for each in range(4)]
+        facts = ["fact p%d(%s,%s)" % (one, two, three) for three in "dcba" for two in "badc" for one in range(4)]
+        told = lines("case c", *["boat " + each for each in "dbac"], *facts[:60],
+                     *["number n%d %d" % (each, each) for each in range(8, 0, -1)])
+        self.assertEqual(text(last(book(lines("book b", *preds)), new_case(told), written(1))), told)
 
 
 class OneCaseTouchesNoOther(unittest.TestCase):

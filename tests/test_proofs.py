@@ -2,23 +2,19 @@
 
 import unittest
 
-from tests.helper import BOOK, CASE, book, fact, joined, last, lines, new_case, number, proof, rule, run
+from tests.helper import (BOOK, CASE, book, certificate, fact, found, last, lines, new_case, number, proof, rule,
+                          run)
 
 NAMES = "abcdefgh"
 
 
 def told(value, steps, away):
     """What proof answers by this certificate."""
-    return [value, len(steps)] + joined(steps) + [len(away)] + joined(away)
+    return [value] + certificate(steps, away)
 
 
 def nil(predicate):
     return (predicate, 0, 0)
-
-
-def found(predicate, first=0, second=0):
-    """A fact's step."""
-    return (0, predicate, first, second, 0, 0, 0)
 
 
 class WithoutPlaces(unittest.TestCase):

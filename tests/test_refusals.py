@@ -2,8 +2,9 @@
 
 import unittest
 
-from tests.helper import (BOOK, CASE, book, every, fact, holds, last, layers, lines, new_case, number, padded, printed,
-                          proof, rule, run)
+from tests.helper import (BOOK, CASE, book, check, counts, decide, decision, every, fact, holds, last, layers, lines,
+                          new_case, number, padded, penalties, printed, proof, rule, run, stands, support, suppose,
+                          written)
 
 BIG = 1000000000000000000
 NO_CASES = (0, 2, -1, BIG, -BIG)
@@ -23,7 +24,10 @@ class NoBook(unittest.TestCase):
     def test_ahead_of_all_else(self):
         for call in (printed(), layers(), new_case(), new_case(""), new_case("x" * 5000), fact(1, 1, "heard"),
                      fact(0, 7, ""), number(1, 1, "a"), number(-5, -5, "_"), rule(1, 1, 1), rule(0, 0, 9),
-                     holds(1, "heard"), holds(0, ""), every(1, 1), every(0, 0), proof(1, "heard"), proof(-1, "")):
+                     holds(1, "heard"), holds(0, ""), every(1, 1), every(0, 0), proof(1, "heard"), proof(-1, ""),
+                     check(1, [0, 0]), check(0, []), check(1, [-1]), support(1, "heard"), support(0, ""),
+                     penalties(1), penalties(0), suppose(1, 1, "heard"), suppose(0, 7, ""), decide(1), decide(0),
+                     stands(1), stands(0), decision(1), decision(-1), written(1), written(0), counts()):
             with self.subTest(call=call[:4]):
                 self.assertEqual(run(call), [[-1]])
                 self.assertEqual(run(book("wrong"), call), [[-1001], [-1]])
@@ -219,9 +223,99 @@ class Asking(unittest.TestCase):
         self.assertEqual(told[3:], [[-3], [-3], [0], [-3], [-3], [1]])
 
 
+class Check(unittest.TestCase):
+    def test_no_case(self):
+        for case in NO_CASES:
+            for numbers in ([0, 0], [], [0], [-1], [1000001, 0], [0] * 600, [1, 0, 1, 1, 0, 0, 0, 0, 0]):
+                with self.subTest(case=case, numbers=numbers[:9]):
+                    self.assertEqual(behind(check(case, numbers)), [-2])
+
+    def test_no_certificate(self):
+        for numbers in ([], [0], [1, 0], [0, 0, 0], [0, -1], [-1, 0], [0, 1000001], [BIG, 0], [0, -BIG], [0] * 600):
+            with self.subTest(numbers=numbers[:9]):
+                self.assertEqual(behind(check(1, numbers)), [-9])
+
+
+class Support(unittest.TestCase):
+    def test_no_case(self):
+        for case in NO_CASES:
+            with self.subTest(case=case):
+                self.assertEqual(behind(support(case, "heard")), [-2])
+                self.assertEqual(behind(support(case, "nobody")), [-2])
+
+    def test_no_atom(self):
+        for atom in NO_ATOMS:
+            with self.subTest(atom=atom[:20]):
+                self.assertEqual(behind(support(1, atom)), [-3])
+
+
+class Suppose(unittest.TestCase):
+    def test_no_case(self):
+        for case in NO_CASES:
+            with self.subTest(case=case):
+                self.assertEqual(behind(suppose(case, 1, "clear(Bo)")), [-2])
+                self.assertEqual(behind(suppose(case, 2, "clear(Bo)")), [-2])
+                self.assertEqual(behind(suppose(case, 0, "nobody")), [-2])
+                self.assertEqual(behind(suppose(case, -1, "nobody")), [-2])
+
+    def test_out_of_range(self):
+        for value in (2, -1, BIG, -BIG):
+            with self.subTest(value=value):
+                self.assertEqual(behind(suppose(1, value, "clear(Bo)")), [-10])
+                self.assertEqual(behind(suppose(1, value, "port(Ada)")), [-10])
+                self.assertEqual(behind(suppose(1, value, "nobody")), [-10])
+
+    def test_no_atom(self):
+        for atom in NO_ATOMS:
+            with self.subTest(atom=atom[:20]):
+                self.assertEqual(behind(suppose(1, 1, atom)), [-3])
+                self.assertEqual(behind(suppose(1, 0, atom)), [-3])
+
+    def test_it_is_never_so_already(self):
+        self.assertEqual(behind(suppose(1, 1, "port(Ada)")), [1, 1, 1, 0])
+        self.assertEqual(behind(suppose(1, 0, "port(Bo)")), [1, 1, 1, 0])
+
+
+class Decisions(unittest.TestCase):
+    def test_penalties_decide_and_case_no_case(self):
+        for case in NO_CASES:
+            for ask in (penalties, decide, written):
+                with self.subTest(case=case, ask=ask.__name__):
+                    self.assertEqual(behind(ask(case)), [-2])
+                    self.assertEqual(behind(decide(1), ask(case)), [-2])
+
+    def test_no_case_comes_ahead_of_no_room(self):
+        full = [decide(1)] * 20
+        for case in NO_CASES:
+            with self.subTest(case=case):
+                self.assertEqual(behind(*full, decide(case)), [-2])
+        self.assertEqual(behind(*full, decide(1)), [-4])
+        self.assertEqual(behind(*full, penalties(1)), [1, 1, 1, 0])
+
+    def test_no_decision(self):
+        for made in range(3):
+            for which in (0, -1, made + 1, made + 2, 21, BIG, -BIG):
+                with self.subTest(made=made, which=which):
+                    self.assertEqual(behind(*[decide(1)] * made, stands(which)), [-7])
+                    self.assertEqual(behind(*[decide(1)] * made, decision(which)), [-7])
+
+    def test_no_decision_though_a_case_of_this_number(self):
+        self.assertEqual(behind(new_case(), decide(1), stands(2)), [-7])
+        self.assertEqual(behind(new_case(), decide(2), decision(2)), [-7])
+        self.assertEqual(behind(decide(1), decide(1), stands(2)), [1])
+        self.assertEqual(behind(decide(1), decide(1), penalties(2)), [-2])
+
+    def test_without_cases(self):
+        for call in (penalties(1), decide(1), written(1), check(1, [0, 0]), support(1, "heard"),
+                     suppose(1, 1, "heard")):
+            with self.subTest(call=call[:2]):
+                self.assertEqual(last(book(), call), [-2])
+
+
 class NothingChanges(unittest.TestCase):
     asked = [printed(), layers(), *[every(1, each) for each in range(1, 8)], proof(1, "broke(Ada)"), proof(1, "heard"),
-             proof(1, "broke(Bo)")]
+             proof(1, "broke(Bo)"), support(1, "broke(Ada)"), penalties(1), suppose(1, 1, "clear(Ada)"), stands(1),
+             decision(1), written(1), counts()]
 
     def test_by_refusals(self):
         refused = [(fact(1, 2, "clear(Ada)"), -10), (fact(1, 1, "clear(Cy)"), -3), (fact(1, 1, "port(Ada)"), -5),
@@ -229,13 +323,24 @@ class NothingChanges(unittest.TestCase):
                    (number(1, 1000001, "filed"), -10), (number(2, 1, "filed"), -2), (number(1, 1, "filed "), -3),
                    (rule(1, 1, 1), -5), (rule(1, 0, 0), -6), (rule(1, 4, 0), -6), (rule(1, 1, 2), -10),
                    (rule(2, 1, 0), -2), (new_case("x"), -1001), (new_case("x" * 4001), -8), (book("x"), -1001),
-                   (book("x" * 4001), -8), (holds(1, "x"), -3), (every(1, 8), -6), (proof(2, "heard"), -2)]
-        before = run(book(), new_case(), *self.asked)[2:]
+                   (book("x" * 4001), -8), (holds(1, "x"), -3), (every(1, 8), -6), (proof(2, "heard"), -2),
+                   (check(1, [0]), -9), (check(2, [0, 0]), -2), (support(1, "x"), -3), (support(2, "heard"), -2),
+                   (penalties(2), -2), (suppose(2, 1, "clear(Ada)"), -2), (suppose(1, 2, "clear(Ada)"), -10),
+                   (suppose(1, 1, "clear(Cy)"), -3), (decide(2), -2), (stands(2), -7), (decision(0), -7),
+                   (written(2), -2)]
+        opened = [book(), new_case(), decide(1)]
+        before = run(*opened, *self.asked)[3:]
         for call, refusal in refused:
             with self.subTest(call=call[:3], refusal=refusal):
-                told = run(book(), new_case(), call, *self.asked)
-                self.assertEqual(told[2], [refusal])
-                self.assertEqual(told[3:], before)
+                told = run(*opened, call, *self.asked)
+                self.assertEqual(told[3], [refusal])
+                self.assertEqual(told[4:], before)
+
+    def test_by_a_case_and_a_decision_without_room(self):
+        opened = [book(), *[new_case()] * 6, *[decide(1)] * 20]
+        before = run(*opened, *self.asked)[27:]
+        told = run(*opened, new_case(), decide(1), *self.asked)[27:]
+        self.assertEqual(told, [[-4], [-4]] + before)
 
     def test_by_a_number_without_room(self):
         full = [number(1, each, "n%d" % each) for each in range(6)]
@@ -243,10 +348,15 @@ class NothingChanges(unittest.TestCase):
         self.assertEqual(told[8:], [[-4], [3], [-4]])
 
     def test_by_asking(self):
-        before = run(book(), new_case(), *self.asked)[2:]
-        told = run(book(), new_case(), holds(1, "broke(Ada)"), *self.asked, holds(1, "broke(Ada)"), *self.asked)
-        self.assertEqual(told[3:3 + len(before)], before)
-        self.assertEqual(told[4 + len(before):], before)
+        opened = [book(), new_case(), decide(1)]
+        before = run(*opened, *self.asked)[3:]
+        asking = [holds(1, "broke(Ada)"), check(1, [0, 0]), check(1, [1, 0, 1, 1, 0, 0, 0, 0, 1, 1, 2, 0]),
+                  check(1, [0, 1, 1, 1, 0]), suppose(1, 1, "broke(Bo)"), suppose(1, 0, "port(Ada)"),
+                  suppose(1, 0, "clear(Ada)"), suppose(1, 1, "port(Ada)"), *self.asked]
+        for call in asking:
+            with self.subTest(call=call[:4]):
+                self.assertEqual(run(*opened, call, *self.asked)[4:], before)
+        self.assertEqual(run(*opened, *asking, *self.asked)[3 + len(asking):], before)
 
 
 if __name__ == "__main__":
